@@ -1,0 +1,1 @@
+"""Cellyards: orders that a yard of cells can make, for every number of wagons."""

@@ -1,0 +1,17 @@
+"""Tests of plain values that the modules share."""
+
+
+def is_integer(thing):
+    """Whether a value is an integer."""
+    # To Python a bool is an int, and True is equal to 1.
+    return isinstance(thing, int) and not isinstance(thing, bool)
+
+
+def is_between(thing, least, most):
+    """Whether a value is an integer from least to most."""
+    return is_integer(thing) and least <= thing <= most
+
+
+def is_list(thing):
+    """Whether a value is taken where a list is wanted."""
+    return isinstance(thing, (list, tuple))

@@ -1,0 +1,73 @@
+"""The names, places and arguments that the interface lists, for what is written so far."""
+
+import importlib
+import inspect
+import unittest
+
+FUNCTIONS = {
+    "orders": {
+        "is_order": ["thing"],
+        "ranks_of": ["order"],
+        "order_of": ["ranks"],
+        "left_out": ["order", "place"],
+        "inverse": ["order"],
+        "turned_about": ["order"],
+    },
+}
+METHODS = {
+    ("yards", "Yard"): {
+        "__init__": ["self", "cells", "*roads", "*entries", "*exits"],
+        "__eq__": ["self", "other"],
+        "__add__": ["self", "other"],
+        "turned": ["self"],
+        "dead": ["self"],
+        "without_road": ["self", "x", "y"],
+        "without_entry": ["self", "x"],
+        "without_exit": ["self", "x"],
+    },
+}
+PROPERTIES = {("yards", "Yard"): ["cells", "roads", "entries", "exits"]}
+
+
+def arguments(function):
+    """The names of the arguments, with a star before those that are passed by name only."""
+    named = []
+    for name, argument in inspect.signature(function).parameters.items():
+        named.append("*" + name if argument.kind == argument.KEYWORD_ONLY else name)
+    return named
+
+
+def module(name):
+    return importlib.import_module("cellyards." + name)
+
+
+class TestInterface(unittest.TestCase):
+    def test_functions(self):
+        for file, functions in FUNCTIONS.items():
+            for name, expected in functions.items():
+                function = getattr(module(file), name)
+                self.assertTrue(inspect.isfunction(function), name)
+                self.assertEqual(function.__module__, "cellyards." + file)
+                self.assertEqual(arguments(function), expected)
+
+    def test_methods_stand_in_their_class_itself(self):
+        for (file, name), methods in METHODS.items():
+            kind = getattr(module(file), name)
+            self.assertEqual(kind.__module__, "cellyards." + file)
+            for method, expected in methods.items():
+                self.assertIn(method, vars(kind))
+                self.assertEqual(arguments(vars(kind)[method]), expected)
+
+    def test_properties_stand_in_their_class_itself(self):
+        for (file, name), properties in PROPERTIES.items():
+            kind = getattr(module(file), name)
+            for part in properties:
+                self.assertIsInstance(vars(kind)[part], property)
+
+    def test_the_package_imports_nothing(self):
+        with open(importlib.import_module("cellyards").__file__) as file:
+            self.assertNotIn("import", file.read())
+
+
+if __name__ == "__main__":
+    unittest.main()
