@@ -70,6 +70,5 @@ def inverse(order):
 
 def turned_about(order):
     """The order that the turned yard makes of an order of the yard."""
-    check_order(order)
     places = inverse(order)
-    return tuple([len(order) + 1 - place for place in places[::-1]])
+    return tuple([len(places) + 1 - place for place in places[::-1]])

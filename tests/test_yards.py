@@ -50,6 +50,13 @@ class TestMaking(YardTest):
             yard = Yard(3, roads=list(turn), entries=[2, 0, 2], exits=[1, 1])
             self.assertEqual(self.parts(yard), (3, ((0, 1), (1, 2), (2, 0)), (0, 2), (1,)))
 
+    def test_rising_also_beyond_small_numbers(self):
+        yard = Yard(9, roads=[(8, 7), (7, 8), (0, 8)], entries=[8, 0, 7], exits=[7, 8, 1])
+        self.assertEqual(self.parts(yard), (9, ((0, 8), (7, 8), (8, 7)), (0, 7, 8), (1, 7, 8)))
+        row = counter(3) + counter(3) + counter(3)
+        self.assertEqual((row.entries, row.exits), ((0, 1, 2), (6, 7, 8)))
+        self.assertEqual((row.turned().entries, row.turned().exits), ((6, 7, 8), (0, 1, 2)))
+
     def test_tuples_where_lists_are_wanted(self):
         by_lists = Yard(3, roads=[(2, 1), (0, 1)], entries=[2, 0], exits=[1, 0])
         by_tuples = Yard(3, roads=((2, 1), (0, 1)), entries=(2, 0), exits=(1, 0))
