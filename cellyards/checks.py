@@ -1,5 +1,7 @@
 """Tests of plain values that the modules share."""
 
+from cellyards.errors import InvalidNumber
+
 
 def is_integer(thing):
     """Whether a value is an integer."""
@@ -15,3 +17,9 @@ def is_between(thing, least, most):
 def is_list(thing):
     """Whether a value is taken where a list is wanted."""
     return isinstance(thing, (list, tuple))
+
+
+def check_number(thing, least):
+    """Raises InvalidNumber if a value is not an integer from least on."""
+    if not is_integer(thing) or thing < least:
+        raise InvalidNumber(thing)

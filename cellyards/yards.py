@@ -1,7 +1,7 @@
 """Yards: cells, one-way roads between them, entries and exits."""
 
 from cellyards.checks import is_between, is_integer, is_list
-from cellyards.errors import InvalidCells, InvalidNumber, InvalidRoads, NoCell, NoRoad
+from cellyards.errors import InvalidCells, InvalidNumber, InvalidRoads, InvalidYard, NoCell, NoRoad
 
 
 class Yard:
@@ -86,6 +86,12 @@ class Yard:
         """The yard without the exit x."""
         exits = _without_cell(self._exits, x)
         return Yard(self._cells, roads=self._roads, entries=self._entries, exits=exits)
+
+
+def check_yard(yard):
+    """Raises InvalidYard if a value is not a yard."""
+    if not isinstance(yard, Yard):
+        raise InvalidYard(yard)
 
 
 def _is_cell(thing, cells):

@@ -28,6 +28,11 @@ INTEGERS = [0, 1, 2, -1, BIG, -BIG]
 NOT_LISTS = [
     None, True, False, 0, 1, -1, BIG, "", "01", "ab", {}, {"a": (0, 1)}, nested_dict(60), Yard(1),
 ]
+NOT_ORDERS = [
+    (0,), (2,), (-1,), (1, 1), (1, 3), (0, 1), (2, 3), (1, 2, 2), (2, 2, 2), (1, 2, 4), (-1, 1),
+    (True,), (True, 2), (2, True), (2, 1, False), (1, None), (1, "2"), (1, (2,)), (1, [2]),
+    ("1",), ((),), ([],), ({},), ((1,),), (1, BIG), (BIG,), [1], [1, 2], [2, 1], [], (1, (2, 1)),
+]
 THINGS = NOT_INTEGERS + INTEGERS + [list(range(20000)), tuple(range(20000)), ["x"] * 20000]
 
 
@@ -54,6 +59,68 @@ def siding():
     """A lane with a cell beside it, and one more cell that is dead."""
     roads = [(0, 1), (1, 2), (2, 1), (1, 3)]
     return Yard(4, roads=roads, entries=[0, 2], exits=[1])
+
+
+def loops():
+    """A yard that has families of patterns."""
+    return Yard(4, roads=[(0, 3), (1, 2), (2, 0)], entries=[0, 1], exits=[2, 3])
+
+
+def many_lines():
+    """The yard of 4 cells whose patterns take the most to find: a family."""
+    return Yard(4, roads=[(0, 1), (0, 3), (1, 2)], entries=[0, 1], exits=[0, 2, 3])
+
+
+def many_sets():
+    """The yard of 4 cells with the most sets, 34, and the longest rule."""
+    return Yard(4, roads=[(0, 2), (1, 0)], entries=[0, 1, 3], exits=[1, 2, 3])
+
+
+def rich_yards():
+    """Yards with many sets, long rules, long patterns or families of patterns."""
+    return [
+        loops(), many_lines(), many_sets(),
+        Yard(3, roads=[(0, 2), (1, 0)], entries=[0, 1], exits=[1, 2]),
+        Yard(4, roads=[(0, 2), (0, 3), (1, 0)], entries=[1, 2, 3], exits=[2, 3]),
+        Yard(4, roads=[(0, 1), (0, 3), (1, 2), (2, 1), (3, 0)], entries=[0, 2], exits=[2, 3]),
+        Yard(4, roads=[(0, 1), (0, 2), (1, 3), (2, 0)], entries=[0, 1], exits=[0, 2, 3]),
+        Yard(4, roads=[(0, 3), (1, 2), (2, 1), (3, 0)], entries=[0, 1], exits=[0, 2, 3]),
+        Yard(4, roads=[(0, 2), (1, 0), (1, 3), (2, 0)], entries=[0, 1, 3], exits=[1, 2, 3]),
+        Yard(4, roads=[(0, 3), (1, 2), (2, 0), (3, 0)], entries=[1, 3], exits=[0, 1, 2]),
+        Yard(4, roads=[(0, 2), (0, 3), (1, 2), (2, 0)], entries=[1, 2, 3], exits=[0, 1, 3]),
+        Yard(4, roads=[(0, 2), (0, 3), (1, 0), (1, 2)], entries=[0, 1], exits=[1, 2, 3]),
+        Yard(4, roads=[(0, 1), (0, 2), (1, 2), (3, 1)], entries=[0, 2, 3], exits=[2]),
+        Yard(4, roads=[(2, 0), (3, 2)], entries=[1, 3], exits=[0, 1, 3]),
+    ]
+
+
+def full(cells):
+    """All roads, and each cell an entry and an exit."""
+    ends = list(range(cells))
+    roads = [(x, y) for x in ends for y in ends if x != y]
+    return Yard(cells, roads=roads, entries=ends, exits=ends)
+
+
+def yard_by_number(cells, number):
+    """The yards of so many cells, each one under a number below 2 ** (cells * (cells + 1))."""
+    ways = [(x, y) for x in range(cells) for y in range(cells) if x != y]
+    roads = [way for at, way in enumerate(ways) if number >> at & 1]
+    number >>= len(ways)
+    entries = [x for x in range(cells) if number >> x & 1]
+    exits = [x for x in range(cells) if number >> (cells + x) & 1]
+    return Yard(cells, roads=roads, entries=entries, exits=exits)
+
+
+def small_yards():
+    """All yards of one and of two cells."""
+    one = [yard_by_number(1, number) for number in range(4)]
+    return one + [yard_by_number(2, number) for number in range(64)]
+
+
+def mixed_yards(step_of_3=97, step_of_4=30011):
+    """Yards of three and four cells from all over."""
+    three = [yard_by_number(3, number) for number in range(5, 4096, step_of_3)]
+    return three + [yard_by_number(4, number) for number in range(7, 2 ** 20, step_of_4)]
 
 
 def sample_yards():
@@ -91,7 +158,18 @@ def reached_from(yard, states, n):
     return found
 
 
+TRIED = {}
+
+
+def parts_of(yard):
+    return yard.cells, yard.roads, yard.entries, yard.exits
+
+
 def orders_by_trying(yard, n):
     """The orders of n wagons that a yard makes, by trying all moves."""
-    start = ((0,) * yard.cells, 0, ())
-    return {gone for cells, come, gone in reached_from(yard, [start], n) if len(gone) == n}
+    key = parts_of(yard), n
+    if key not in TRIED:
+        start = ((0,) * yard.cells, 0, ())
+        found = reached_from(yard, [start], n)
+        TRIED[key] = frozenset(gone for cells, come, gone in found if len(gone) == n)
+    return TRIED[key]

@@ -13,6 +13,33 @@ FUNCTIONS = {
         "inverse": ["order"],
         "turned_about": ["order"],
     },
+    "moving": {
+        "is_run": ["yard", "thing"],
+        "order_made": ["yard", "moves"],
+        "fewest_moves": ["yard", "order"],
+        "can": ["yard", "order"],
+        "bar": ["yard", "order"],
+        "is_bar": ["yard", "order", "thing"],
+    },
+    "counting": {
+        "count": ["yard", "n", "*modulus"],
+        "rule": ["yard"],
+        "orders_of": ["yard", "n"],
+        "order_at": ["yard", "n", "number"],
+        "number_of": ["yard", "order"],
+    },
+    "comparing": {
+        "within": ["inner", "outer"],
+        "parting": ["yard", "other"],
+        "within_paper": ["inner", "outer"],
+        "is_within": ["inner", "outer", "thing"],
+        "parted": ["first", "second", "order"],
+    },
+    "patterns": {
+        "is_pattern": ["yard", "order"],
+        "patterns_of": ["yard", "n"],
+        "patterns": ["yard"],
+    },
 }
 METHODS = {
     ("yards", "Yard"): {

@@ -4,13 +4,8 @@ import unittest
 from cellyards.errors import InvalidNumber, InvalidOrder, InvalidRanks
 from cellyards.orders import inverse, is_order, left_out, order_of, ranks_of, turned_about
 from cellyards.yards import Yard
-from samples import BIG, NOT_INTEGERS, THINGS, orders_by_trying, sample_yards
+from samples import BIG, NOT_INTEGERS, NOT_ORDERS, THINGS, orders_by_trying, sample_yards
 
-NOT_ORDERS = [
-    (0,), (2,), (-1,), (1, 1), (1, 3), (0, 1), (2, 3), (1, 2, 2), (2, 2, 2), (1, 2, 4), (-1, 1),
-    (True,), (True, 2), (2, True), (2, 1, False), (1, None), (1, "2"), (1, (2,)), (1, [2]),
-    ("1",), ((),), ([],), ({},), ((1,),), (1, BIG), (BIG,), [1], [1, 2], [2, 1], [], (1, (2, 1)),
-]
 NOT_RANKS = [
     (0,), (2,), (-1,), (1, 2), (3, 1), (2, 2), (0, 1), (1, 0), (2, 1, 2), (4, 1, 1), (1, 3, 1),
     (True,), (True, 1), (1, True), (2, False), (1, None), (1, "1"), (1, (1,)), ("1",), ((),), ([],),

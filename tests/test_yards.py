@@ -1,27 +1,19 @@
 import itertools
 import unittest
 
+from calls import CallTest
 from cellyards.errors import InvalidCells, InvalidNumber, InvalidRoads, NoCell, NoRoad
 from cellyards.orders import turned_about
 from cellyards.yards import Yard
 from samples import (
     BIG, INTEGERS, NOT_INTEGERS, NOT_LISTS, THINGS,
-    counter, lane, orders_by_trying, reached_from, sample_yards, siding, stub, turntable,
+    counter, lane, orders_by_trying, parts_of, reached_from, sample_yards, siding, stub, turntable,
 )
 
 
-class YardTest(unittest.TestCase):
+class YardTest(CallTest):
     def parts(self, yard):
-        return yard.cells, yard.roads, yard.entries, yard.exits
-
-    def fails(self, kind, field, worth, call, *args, **more):
-        """Whether a call raises just this error with this field, of the same kind."""
-        with self.assertRaises(kind) as caught:
-            call(*args, **more)
-        self.assertIs(type(caught.exception), kind)
-        found = getattr(caught.exception, field)
-        self.assertEqual(found, worth)
-        self.assertIs(type(found), type(worth))
+        return parts_of(yard)
 
 
 class TestMaking(YardTest):
