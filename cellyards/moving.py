@@ -44,7 +44,7 @@ def _gone_out(yard, thing):
     inside = [0] * yard.cells
     come, gone = 0, []
     for move in thing:
-        if not is_move(yard, move) or not _is_free(inside, move):
+        if not is_move(yard, move) or cell_in_the_way(inside, move) is not None:
             return None
         if move[0] == "in":
             come += 1
@@ -58,13 +58,17 @@ def _gone_out(yard, thing):
     return tuple(gone) if len(gone) == come else None
 
 
-def _is_free(inside, move):
-    """Whether no cell is in the way of a move, and a wagon stands where it begins."""
-    if move[0] == "in":
-        return inside[move[1]] == 0
-    if move[0] == "road" and inside[move[2]] != 0:
-        return False
-    return inside[move[1]] != 0
+def cell_in_the_way(inside, move):
+    """The cell that is in the way of a move of the yard, or None if it is possible.
+
+    The wagons that are inside are told for each cell, 0 where there is none.
+    """
+    name, begin, end = move[0], move[1], move[-1]
+    if name == "in":
+        return begin if inside[begin] != 0 else None
+    if inside[begin] == 0:
+        return begin
+    return end if name == "road" and inside[end] != 0 else None
 
 
 def fewest_moves(yard, order):

@@ -13,6 +13,12 @@ def is_standing(thing, cells):
     return ranks == list(range(1, len(ranks) + 1))
 
 
+def standing_of(wagons):
+    """The standing of wagons that are told for each cell, 0 where there is none."""
+    inside = sorted([wagon for wagon in wagons if wagon != 0])
+    return tuple([0 if wagon == 0 else inside.index(wagon) + 1 for wagon in wagons])
+
+
 class Standings:
     """Where moves lead from the standings of one yard. What was worked out is kept."""
 

@@ -5,7 +5,7 @@ Each judge goes by the words of the document alone, and not by how the package w
 
 import itertools
 
-from samples import orders_by_trying
+from samples import orders_by_trying, parts_of
 
 
 def is_whole(thing):
@@ -162,6 +162,23 @@ def judged_paper(inner, outer, thing):
     return all(wanted in pairs for pair in pairs for wanted in wanted_by(inner, outer, pair))
 
 
+def whole(inner, outer, pairs):
+    """Pairs of a within paper with all that they ask for, if no set becomes empty."""
+    found = dict.fromkeys(pairs)
+    waiting = list(found)
+    while waiting:
+        for pair in wanted_by(inner, outer, waiting.pop()):
+            if pair not in found:
+                found[pair] = None
+                waiting.append(pair)
+    return list(found)
+
+
+def proved_within(inner, outer):
+    """Whether one yard is within another one: whether all that must stand in a paper is one."""
+    return judged_paper(inner, outer, whole(inner, outer, [((0,) * inner.cells, first_set(outer))]))
+
+
 def all_orders(n):
     return list(itertools.permutations(range(1, n + 1)))
 
@@ -189,3 +206,133 @@ def first_difference(inner, outer, most):
         if more:
             return min(more)
     return None
+
+
+def greatest_rank(yard, most):
+    """The greatest rank in the orders of at most so many wagons, 0 if there is none."""
+    orders = [order for n in range(most + 1) for order in orders_by_trying(yard, n)]
+    return max([0, *[rank for order in orders for rank in ranks_by_words(order)]])
+
+
+def judged_loop(yard, k, thing):
+    """Whether a value is a loop for k, as far as it is told by going round it up to three times."""
+    before, loop, after = thing
+    for t in range(4):
+        order = played(yard, before + loop * t + after)
+        if order is None or len(order) != t + k or ranks_by_words(order)[:t] != (k + 1,) * t:
+            return False
+    return True
+
+
+KNOWN = {}
+
+
+def kept(call):
+    """A function of a yard and things that can be keys, whose answers are kept."""
+    def known(yard, *things):
+        key = call.__name__, parts_of(yard), things
+        if key not in KNOWN:
+            KNOWN[key] = call(yard, *things)
+        return KNOWN[key]
+    return known
+
+
+@kept
+def set_behind(yard, row, rank):
+    return behind(yard, row, rank)
+
+
+@kept
+def ranks_let_out(yard, row):
+    """The ranks that members of a set let out."""
+    return sorted({rank for standing in row for rank in lets_out(yard, standing)})
+
+
+@kept
+def left_by(yard, standing, rank):
+    """What may be left of a standing behind in and road moves, none into dead cells, and a rank."""
+    reached = in_and_road(yard, [standing])
+    return [lets_out(yard, later)[rank] for later in reached if rank in lets_out(yard, later)]
+
+
+@kept
+def sets_of(yard):
+    """All sets of a yard that are not empty."""
+    found = {first_set(yard)}
+    waiting = list(found)
+    while waiting:
+        row = waiting.pop()
+        later = {set_behind(yard, row, rank) for rank in ranks_let_out(yard, row)} - found
+        found |= later
+        waiting.extend(later)
+    return found
+
+
+def is_rows(thing):
+    """Whether a value is a tuple of tuples of integers."""
+    return type(thing) is tuple and all(type(row) is tuple and all(map(is_whole, row)) for row in thing)
+
+
+def judged_good(yard, pairs):
+    """Whether a value is the pairs of a good paper."""
+    if type(pairs) is not tuple:
+        return False
+    lots = {}
+    for pair in pairs:
+        if type(pair) is not tuple or len(pair) != 2 or not all(map(is_rows, pair)):
+            return False
+        row, lot = pair
+        rising = all(a < b for a, b in zip(lot, lot[1:]))
+        if row not in sets_of(yard) or not set(lot) <= set(row) or not rising or row in lots:
+            return False
+        lots[row] = lot
+    if (0,) * yard.cells not in lots.get(first_set(yard), ()):
+        return False
+    return all(
+        any(left in lots.get(set_behind(yard, row, rank), ()) for left in left_by(yard, standing, rank))
+        for row, lot in lots.items() for standing in lot for rank in ranks_let_out(yard, row)
+    )
+
+
+def judged_bad(yard, rows):
+    """Whether a value is the rows of a bad paper."""
+    if type(rows) is not tuple:
+        return False
+    heights = {}
+    for thing in rows:
+        if type(thing) is not tuple or len(thing) != 4:
+            return False
+        row, standing, rank, height = thing
+        if not is_rows(row) or not is_rows((standing,)) or not is_whole(rank) or not is_whole(height):
+            return False
+        if row not in sets_of(yard) or standing not in row or rank not in ranks_let_out(yard, row) or height < 0:
+            return False
+        heights.setdefault((row, standing), []).append(height)
+    if (first_set(yard), (0,) * yard.cells) not in heights:
+        return False
+    return all(
+        any(lesser < height for lesser in heights.get((set_behind(yard, row, rank), left), []))
+        for row, standing, rank, height in rows for left in left_by(yard, standing, rank)
+    )
+
+
+def judged_blind_paper(yard, thing):
+    """Whether a value is a blind paper."""
+    if type(thing) is not tuple or len(thing) != 2 or type(thing[0]) is not str:
+        return False
+    kind, part = thing
+    return kind == "good" and judged_good(yard, part) or kind == "bad" and judged_bad(yard, part)
+
+
+@kept
+def led(yard, row, standing, many):
+    """Whether so many ranks, whatever they are, can be let out from a standing, each one told late."""
+    return many == 0 or all(
+        any(led(yard, set_behind(yard, row, rank), left, many - 1) for left in left_by(yard, standing, rank))
+        for rank in ranks_let_out(yard, row)
+    )
+
+
+def led_for(yard, many):
+    """Whether so many ranks can be let out of the yard, each one told when the one before is out."""
+    return led(yard, first_set(yard), (0,) * yard.cells, many)

@@ -94,6 +94,38 @@ def rich_yards():
     ]
 
 
+def no_way_yards():
+    """Yards through which no wagon passes."""
+    return [Yard(1), Yard(1, entries=[0]), Yard(1, exits=[0]), Yard(3, roads=[(0, 1), (1, 2)], entries=[0])]
+
+
+def dead_end_yards():
+    """Yards with dead cells, with entries and exits among them and beside them."""
+    return [
+        Yard(2, entries=[0, 1], exits=[0]),
+        Yard(2, roads=[(0, 1)], entries=[0], exits=[0]),
+        Yard(3, roads=[(0, 1), (1, 2)], entries=[0, 2], exits=[0]),
+        Yard(3, roads=[(0, 1), (1, 0), (0, 2)], entries=[0, 2], exits=[0]),
+        Yard(4, roads=[(0, 1), (1, 2), (2, 1), (0, 3)], entries=[0, 3], exits=[1, 2]),
+        siding(),
+    ]
+
+
+def bad_yards():
+    """Yards that cannot be led blind."""
+    return [
+        Yard(3, roads=[(0, 2), (1, 0)], entries=[0, 1], exits=[1, 2]),
+        Yard(3, roads=[(0, 1), (1, 0), (1, 2), (2, 1)], entries=[0, 1], exits=[0]),
+        Yard(3, roads=[(0, 1), (0, 2), (2, 1)], entries=[0], exits=[0, 1]),
+        # One of each with a dead cell, which is an entry, too, in the second one.
+        Yard(4, roads=[(1, 0), (2, 0), (2, 3), (3, 1)], entries=[1, 2, 3], exits=[1]),
+        Yard(4, roads=[(0, 2), (0, 3), (1, 2), (1, 3), (3, 1), (3, 2)], entries=[0, 1, 2], exits=[0, 3]),
+        # Some of these are lost only after two or three more ranks.
+        Yard(4, roads=[(0, 1), (0, 2), (0, 3), (2, 1), (3, 0)], entries=[0, 1, 2], exits=[0, 1]),
+        Yard(4, roads=[(0, 2), (1, 0), (1, 3), (2, 0), (2, 1)], entries=[2, 3], exits=[0, 3]),
+    ]
+
+
 def full(cells):
     """All roads, and each cell an entry and an exit."""
     ends = list(range(cells))
@@ -173,3 +205,23 @@ def orders_by_trying(yard, n):
         found = reached_from(yard, [start], n)
         TRIED[key] = frozenset(gone for cells, come, gone in found if len(gone) == n)
     return TRIED[key]
+
+
+def steps_along(yard, many):
+    """A long row of moves of a yard, always another one of the possible ones, by a fixed rule."""
+    inside, come, moves, turn = [0] * yard.cells, 0, [], 1
+    while len(moves) < many:
+        ways = [("in", x) for x in yard.entries if not inside[x]]
+        ways += [("road", x, y) for x, y in yard.roads if inside[x] and not inside[y]]
+        ways += [("out", x) for x in yard.exits if inside[x]]
+        if not ways:
+            break
+        turn = turn * 1103515245 % 2 ** 31 + 12345
+        move = ways[turn // 2 ** 16 % len(ways)]
+        wagon = come + 1 if move[0] == "in" else inside[move[1]]
+        come += move[0] == "in"
+        inside[move[1]] = 0
+        if move[0] != "out":
+            inside[move[-1]] = wagon
+        moves.append(move)
+    return moves

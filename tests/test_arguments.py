@@ -4,11 +4,20 @@ import copy
 import unittest
 
 from calls import NOT_YARDS, CallTest
+from cellyards.blind import blind, blind_paper, is_blind_paper
 from cellyards.comparing import is_within, parted, parting, within, within_paper
 from cellyards.counting import count, number_of, order_at, orders_of, rule
-from cellyards.errors import InvalidMove, InvalidNumber, InvalidOrder, InvalidYard
+from cellyards.desks import Desk
+from cellyards.errors import (
+    InvalidCells, InvalidMove, InvalidNumber, InvalidOrder, InvalidRanks, InvalidRoads, InvalidYard, NoCell, NoRoad,
+    NothingDone, YardError,
+)
 from cellyards.moving import bar, can, fewest_moves, is_bar, is_run, order_made
+from cellyards.orders import inverse, is_order, left_out, order_of, ranks_of, turned_about
+from cellyards.parts import in_the_way, spare_entries, spare_exits, spare_roads
 from cellyards.patterns import is_pattern, patterns, patterns_of
+from cellyards.rooms import loop, room
+from cellyards.yards import Yard
 from samples import BIG, NOT_INTEGERS, NOT_ORDERS, THINGS, counter, lane, parts_of, stub
 
 NOT_NUMBERS = [*NOT_INTEGERS, -1, -BIG]
@@ -22,6 +31,7 @@ KINDS = {
     "order": ([*NOT_ORDERS, *[thing for thing in THINGS if type(thing) is not tuple]], InvalidOrder, (2, 1)),
     "n": (NOT_NUMBERS, InvalidNumber, 2),
     "number": (NOT_NUMBERS, InvalidNumber, 1),
+    "k": ([*NOT_NUMBERS, 0], InvalidNumber, 1),
     "modulus": ([thing for thing in NOT_INTEGERS if thing is not None] + [0, -1, -BIG], InvalidNumber, 7),
     "moves": (NO_RUNS, InvalidMove, [("in", 0), ("out", 0)]),
     "thing": ([], None, []),
@@ -46,7 +56,16 @@ CALLS = [
     (number_of, "yard order"), (within, "inner outer"), (parting, "yard other"),
     (within_paper, "inner outer"), (is_within, "inner outer thing"), (parted, "first second order"),
     (is_pattern, "yard order"), (patterns_of, "yard n"), (patterns, "yard"),
+    (room, "yard"), (loop, "yard k"), (blind, "yard"), (blind_paper, "yard"), (is_blind_paper, "yard thing"),
+    (in_the_way, "yard order"), (spare_roads, "yard"), (spare_entries, "yard"), (spare_exits, "yard"),
 ]
+
+
+def objects():
+    """Objects of the package that are no yards, new ones each time."""
+    desk = Desk(stub(2))
+    desk.move(("in", 0))
+    return [Desk(stub(2)), desk, YardError("no"), NothingDone(), InvalidMove(desk), orders_of(stub(2), 2)]
 
 
 def called(call, values):
@@ -106,6 +125,7 @@ class TestArguments(CallTest):
             self.assertEqual(number_of(yard, ()), 0)
             self.assertEqual(parted(yard, stub(2), ()), ((), ()))
             self.assertIs(is_pattern(yard, ()), False)
+            self.assertIsNone(in_the_way(yard, ()))
         for call, words in CALLS:
             values = [(name, right(name)) for name in words.split()]
             values[0] = (values[0][0], ())
@@ -136,6 +156,80 @@ class TestArguments(CallTest):
             self.assertEqual(after, before)
             others = [value for name, value in values]
             self.assertEqual(others, [right(name) for name in names])
+
+
+class TestObjectsOfThePackage(CallTest):
+    def raises(self, kind, field, thing, call, *args, **more):
+        """Whether a call raises just this error with this very object."""
+        with self.assertRaises(kind) as caught:
+            call(*args, **more)
+        self.assertIs(type(caught.exception), kind)
+        self.assertIs(getattr(caught.exception, field), thing)
+
+    def test_for_each_argument_of_each_function(self):
+        for call, words in CALLS:
+            names = words.split()
+            for at, name in enumerate(names):
+                _, kind, _ = KINDS[name.strip("*")]
+                for thing in objects():
+                    values = [(other, thing if other == name else right(other)) for other in names]
+                    if kind is None:
+                        self.assertIs(called(call, values), False)
+                    else:
+                        self.raises(kind, "thing", thing, called, call, values)
+
+    def test_within_other_values(self):
+        for thing in objects():
+            for call in (is_run, is_blind_paper):
+                for other in ([thing], (thing,), [(thing, 0)], (thing, ()), ("good", (thing,)), ("bad", (thing,))):
+                    self.assertIs(call(stub(2), other), False)
+            for other in ([[thing], []], [thing, []], [((0, 0), (thing,))], [(thing, ((0, 0),))], [thing]):
+                self.assertIs(is_bar(stub(2), (3, 1, 2), other), False)
+                self.assertIs(is_within(stub(2), stub(2), other), False)
+            self.assertIs(is_order((thing,)), False)
+            self.assertIs(stub(2) == thing, False)
+
+    def test_for_arguments_of_orders_and_yards(self):
+        for thing in objects():
+            self.assertIs(is_order(thing), False)
+            for call in (ranks_of, inverse, turned_about):
+                self.raises(InvalidOrder, "thing", thing, call, thing)
+            self.raises(InvalidOrder, "thing", thing, left_out, thing, 0)
+            self.raises(InvalidNumber, "thing", thing, left_out, (1,), thing)
+            self.raises(InvalidRanks, "thing", thing, order_of, thing)
+            self.raises(InvalidNumber, "thing", thing, Yard, thing)
+            for name, kind in (("roads", InvalidRoads), ("entries", InvalidCells), ("exits", InvalidCells)):
+                self.raises(kind, "place", None, Yard, 2, **{name: thing})
+                self.raises(kind, "place", 0, Yard, 2, **{name: [thing]})
+            self.raises(NoRoad, "x", thing, stub(2).without_road, thing, 0)
+            self.raises(NoRoad, "y", thing, stub(2).without_road, 0, thing)
+            self.raises(NoCell, "x", thing, stub(2).without_entry, thing)
+            self.raises(NoCell, "x", thing, stub(2).without_exit, thing)
+            for add in (lambda x: stub(2) + x, lambda x: x + stub(2)):
+                with self.assertRaises(TypeError):
+                    add(thing)
+
+    def test_for_desks(self):
+        for thing in objects():
+            self.raises(InvalidYard, "thing", thing, Desk, thing)
+            desk = Desk(stub(2))
+            self.raises(InvalidMove, "thing", thing, desk.move, thing)
+            for name in ("in", "out", "road"):
+                with self.assertRaises(InvalidMove):
+                    desk.move((name, thing))
+                with self.assertRaises(InvalidMove):
+                    desk.move((thing, 0))
+            self.assertEqual((len(desk), desk.inside), (0, (0, 0)))
+
+
+class TestDesk(CallTest):
+    def test_arguments_by_name(self):
+        desk = Desk(yard=stub(2))
+        self.assertEqual(desk.move(move=("in", 0)), 1)
+        with self.assertRaises(TypeError):
+            Desk()
+        with self.assertRaises(TypeError):
+            desk.back(1)
 
 
 if __name__ == "__main__":

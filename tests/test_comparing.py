@@ -5,7 +5,7 @@ from cellyards.comparing import is_within, parted, parting, within, within_paper
 from cellyards.yards import Yard
 from judges import (
     all_orders, all_standings, behind, first_difference, first_set, in_and_road, is_live, is_pair, judged_paper,
-    wanted_by,
+    proved_within, whole,
 )
 from samples import (
     THINGS, counter, full, lane, loops, many_lines, many_sets, mixed_yards, orders_by_trying, parts_of, rich_yards,
@@ -41,24 +41,11 @@ def pairs_of_four_and_three():
     return [(a, b) for a in three for b in four]
 
 
-def whole(inner, outer, pairs):
-    """The pairs with all that they ask for, if no set becomes empty."""
-    found = dict.fromkeys(pairs)
-    waiting = list(found)
-    while waiting:
-        for pair in wanted_by(inner, outer, waiting.pop()):
-            if pair not in found:
-                found[pair] = None
-                waiting.append(pair)
-    return list(found)
-
-
 class ComparingTest(CallTest):
     def shown(self, inner, outer):
         """What is known by trying few wagons, or a judge's proof that there is nothing to be shown."""
         order = first_difference(inner, outer, 3)
-        pairs = whole(inner, outer, [((0,) * inner.cells, first_set(outer))])
-        proof = judged_paper(inner, outer, pairs)
+        proof = proved_within(inner, outer)
         if order is None and not proof:
             order = first_difference(inner, outer, 7)
             self.assertIsNotNone(order)

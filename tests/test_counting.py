@@ -9,11 +9,11 @@ from cellyards.errors import InvalidNumber, InvalidYard, NoOrder, NotMade
 from cellyards.yards import Yard
 from judges import all_orders
 from samples import (
-    BIG, counter, full, lane, loops, many_lines, many_sets, mixed_yards, orders_by_trying, rich_yards, sample_yards, siding,
-    small_yards, stub, turntable,
+    BIG, counter, full, lane, loops, many_lines, many_sets, mixed_yards, no_way_yards, orders_by_trying, rich_yards,
+    sample_yards, siding, small_yards, stub, turntable,
 )
 
-NO_WAY = [Yard(1), Yard(1, entries=[0]), Yard(1, exits=[0]), Yard(3, roads=[(0, 1), (1, 2)], entries=[0])]
+NO_WAY = no_way_yards()
 THIRTY = [10 ** 30 - 1, 10 ** 29, 2 ** 99 - 1, 999999999999999989, 10 ** 29 + 33]
 
 

@@ -1,4 +1,4 @@
-"""The names, places and arguments that the interface lists, for what is written so far."""
+"""The names, places and arguments that the interface lists."""
 
 import importlib
 import inspect
@@ -40,6 +40,14 @@ FUNCTIONS = {
         "patterns_of": ["yard", "n"],
         "patterns": ["yard"],
     },
+    "rooms": {"room": ["yard"], "loop": ["yard", "k"]},
+    "blind": {"blind": ["yard"], "blind_paper": ["yard"], "is_blind_paper": ["yard", "thing"]},
+    "parts": {
+        "in_the_way": ["yard", "order"],
+        "spare_roads": ["yard"],
+        "spare_entries": ["yard"],
+        "spare_exits": ["yard"],
+    },
 }
 METHODS = {
     ("yards", "Yard"): {
@@ -52,8 +60,19 @@ METHODS = {
         "without_entry": ["self", "x"],
         "without_exit": ["self", "x"],
     },
+    ("desks", "Desk"): {
+        "__init__": ["self", "yard"],
+        "__len__": ["self"],
+        "__iter__": ["self"],
+        "move": ["self", "move"],
+        "back": ["self"],
+        "hopeless": ["self"],
+    },
 }
-PROPERTIES = {("yards", "Yard"): ["cells", "roads", "entries", "exits"]}
+PROPERTIES = {
+    ("yards", "Yard"): ["cells", "roads", "entries", "exits"],
+    ("desks", "Desk"): ["yard", "out", "inside", "standing"],
+}
 
 
 def arguments(function):

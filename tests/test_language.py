@@ -16,7 +16,8 @@ BUILTINS = """
 LIBRARY = {
     "heapq": "heappush heappop heapify heapreplace heappushpop",
     "math": "gcd lcm isqrt comb perm factorial",
-    "itertools": "product combinations permutations chain accumulate pairwise islice zip_longest",
+    # No products: a class is iterated over and has a length.
+    "itertools": "chain accumulate pairwise islice zip_longest",
     "collections": "defaultdict deque",
 }
 DOUBLE_UNDERSCORES = """
@@ -26,6 +27,11 @@ DOUBLE_UNDERSCORES = """
 WORDS = """
     typing enum Enum namedtuple NamedTuple dataclass overload contextmanager abstractmethod
     Generic Protocol ABC TypedDict _wall _WallAttr
+""".split()
+NO_NAMES = """
+    register mro elements open input law version_info with_traceback add_note attrgetter breakpoint
+    builtins compile copyright credits delattr dir eval exec exit gc getattr globals hasattr help id
+    importlib license locals methodcaller os quit setattr super type vars sys
 """.split()
 METHODS = """
     append clear copy count endswith extend find get index insert isalnum isalpha isdigit islower
@@ -128,6 +134,66 @@ class TestLanguage(unittest.TestCase):
         for name, node in nodes():
             if isinstance(node, ast.Attribute) and isinstance(node.ctx, ast.Load):
                 self.assertIn(node.attr, known + METHODS + ["__init__"], name)
+
+    def bound(self, tree):
+        """The names of parameters and variables in a file."""
+        for node in ast.walk(tree):
+            if isinstance(node, ast.arg):
+                yield node.arg
+            if isinstance(node, ast.Name) and isinstance(node.ctx, ast.Store):
+                yield node.id
+
+    def test_names_of_variables(self):
+        for name, tree in trees().items():
+            defined = [node.name for node in tree.body if isinstance(node, (ast.ClassDef, ast.FunctionDef))]
+            imported = [a.name for node in tree.body if isinstance(node, ast.ImportFrom) for a in node.names]
+            for word in self.bound(tree):
+                self.assertNotIn(word, defined + imported + NO_NAMES, name)
+                self.assertRegex(word, r"\A(_|_?[A-Za-z][A-Za-z0-9_]*)\Z", name)
+            self.assertEqual(len(defined + imported), len(set(defined + imported)), name)
+
+    def test_names_in_classes(self):
+        methods, properties, attributes = [], [], []
+        for name, node in nodes():
+            if isinstance(node, ast.ClassDef):
+                parts = [part for part in node.body if isinstance(part, ast.FunctionDef)]
+                own = [part.name for part in parts]
+                self.assertEqual(len(own), len(set(own)), (name, node.name))
+                properties.extend([part.name for part in parts if part.decorator_list])
+                methods.extend([part.name for part in parts if not part.decorator_list])
+            if isinstance(node, ast.Attribute) and isinstance(node.ctx, ast.Store):
+                attributes.append(node.attr)
+        self.assertEqual(set(properties) & set(methods), set())
+        self.assertEqual(set(attributes) & (set(methods) | set(properties)), set())
+        self.assertEqual(set(attributes + properties) & set(METHODS), set())
+
+    def test_no_other_function_has_the_name_of_a_generator(self):
+        functions = [node for _, node in nodes() if isinstance(node, ast.FunctionDef)]
+        yielding = [f.name for f in functions if any(isinstance(node, (ast.Yield, ast.YieldFrom)) for node in ast.walk(f))]
+        names = [f.name for f in functions]
+        for name in yielding:
+            self.assertEqual(names.count(name), 1)
+            self.assertNotIn(name, METHODS)
+
+    def test_methods_of_one_statement(self):
+        for name, node in nodes():
+            if isinstance(node, ast.FunctionDef) and node.name in ("__len__", "__iter__"):
+                self.assertEqual(len(node.body), 1)
+                call = node.body[0].value
+                self.assertEqual(call.func.id, node.name.strip("_"), name)
+                self.assertIsInstance(call.args[0], ast.Attribute)
+
+    def test_sets_are_sorted_at_once(self):
+        for name, tree in trees().items():
+            good = []
+            for node in ast.walk(tree):
+                self.assertNotIsInstance(node, (ast.Set, ast.SetComp), name)
+                if isinstance(node, ast.Call) and ast.unparse(node.func) in ("sorted", "len"):
+                    good.extend(node.args)
+            for node in ast.walk(tree):
+                if isinstance(node, ast.Call) and ast.unparse(node.func) in ("set", "frozenset"):
+                    self.assertEqual(ast.unparse(node.func), "set", name)
+                    self.assertIn(node, good, name)
 
     def test_statements_and_expressions_that_do_not_occur(self):
         barred = (

@@ -7,8 +7,8 @@ from cellyards.moving import bar, can, fewest_moves, is_bar, is_run, order_made
 from cellyards.yards import Yard
 from judges import all_orders, all_standings, dead_cells, judged_bar, lets_out, one_move, played, ranks_by_words
 from samples import (
-    THINGS, counter, full, lane, loops, many_lines, many_sets, mixed_yards, moves_from, orders_by_trying,
-    sample_yards, siding, small_yards, stub, turntable,
+    THINGS, counter, dead_end_yards, full, lane, loops, many_lines, many_sets, mixed_yards, moves_from,
+    orders_by_trying, sample_yards, siding, small_yards, stub, turntable,
 )
 
 STRANGE_MOVES = [
@@ -19,12 +19,7 @@ STRANGE_MOVES = [
     ("in", "0"), ("in", None), ("in", (0,)), ("in", [0]), ("road", [0], [1]), ("road", 0, None),
     "in", 0, (), [], {}, None, Yard(1), (Yard(1), 0), ("in", Yard(1)), (("in", 0),), ("in", {"a": 0}),
 ]
-DEAD_ENDS = [
-    Yard(2, entries=[0, 1], exits=[0]),
-    Yard(2, roads=[(0, 1)], entries=[0], exits=[0]),
-    Yard(3, roads=[(0, 1), (1, 2)], entries=[0, 2], exits=[0]),
-    siding(),
-]
+DEAD_ENDS = dead_end_yards()
 
 
 def moves_of(yard):

@@ -7,11 +7,11 @@ from cellyards.patterns import is_pattern, patterns, patterns_of
 from cellyards.yards import Yard
 from judges import all_orders, patterns_by_trying, ranks_by_words, without_place
 from samples import (
-    counter, full, lane, loops, many_lines, many_sets, mixed_yards, orders_by_trying, rich_yards, sample_yards, siding,
-    small_yards, stub, turntable,
+    counter, full, lane, loops, many_lines, many_sets, mixed_yards, no_way_yards, orders_by_trying, rich_yards,
+    sample_yards, siding, small_yards, stub, turntable,
 )
 
-NO_WAY = [Yard(1), Yard(1, entries=[0]), Yard(1, exits=[0]), Yard(3, roads=[(0, 1), (1, 2)], entries=[0])]
+NO_WAY = no_way_yards()
 
 
 class PatternTest(CallTest):
